@@ -205,6 +205,14 @@ func TestP18_3_PutAndClose(t *testing.T) {
 		}
 	}
 	x := table(1, 2, 3)
+	for i := range x {
+		s, after := x[i], table(1, 2, 3)
+		s.Addr++
+		after[i] = s
+		if got, ok := session.Put(x, s); !ok || !session.Same(got, after) {
+			t.Errorf("Put at the place %d: %v", i, ok)
+		}
+	}
 	for i, id := range []int{10, 20, 30} {
 		if got, ok := session.Close(x, id); !ok || !session.Same(got, slices.Delete(table(1, 2, 3), i, i+1)) {
 			t.Errorf("Close of %d: %v", id, ok)
