@@ -8,7 +8,6 @@ import (
 	"nightjar/health"
 	"nightjar/roster"
 	"nightjar/session"
-	"nightjar/sub"
 	"nightjar/tag"
 )
 
@@ -75,7 +74,7 @@ func (s *Server) order(one api.Session, p api.Packet) []api.Out {
 		one.OpCode = int(code)
 		s.put(one)
 		if code == api.OK {
-			s.stand(rels, p.Op, one.User, p.User)
+			s.stand(rels, one.User, p.User)
 		}
 	}
 	return reply(one)
@@ -86,15 +85,19 @@ func reply(one api.Session) []api.Out {
 	return signed(one, api.Packet{Kind: api.KindReply, Session: one.ID, Seq: one.OpSeq, Op: one.OpCode})
 }
 
-// stand takes the row that an op makes, and tells the watcher from now on, or no longer.
-func (s *Server) stand(rels []api.Rel, op, who, peer int) {
-	watcher, target := peer, who
-	if sub.Mine(op) {
-		watcher, target = who, peer
-	}
-	could := roster.State(s.rels, watcher, target) == api.RelMay
-	may := roster.State(rels, watcher, target) == api.RelMay
+// stand takes the row that an op between two users makes.
+func (s *Server) stand(rels []api.Rel, who, peer int) {
+	before := s.rels
 	s.rels = rels
+	// Which of the two the watcher is hangs on the op; it leaves the other standing as it was, so that both can be asked.
+	s.follow(before, who, peer)
+	s.follow(before, peer, who)
+}
+
+// follow tells a watcher of a target from now on, or no longer, as its standing changed.
+func (s *Server) follow(before []api.Rel, watcher, target int) {
+	could := roster.State(before, watcher, target) == api.RelMay
+	may := roster.State(s.rels, watcher, target) == api.RelMay
 	if may && !could {
 		s.add(session.Of(s.sessions, watcher), target)
 	}
